@@ -1,0 +1,34 @@
+// Package sample makes axioms and concepts from texts, for the tests of the other packages. Its functions panic if a text is wrong.
+package sample
+
+import (
+	"veilstone/api"
+	"veilstone/syntax"
+)
+
+// Axioms parses axioms, each of them followed by a ".".
+func Axioms(text string) []api.Axiom {
+	l, bad, e := syntax.Document([]byte(text))
+	if e != api.OK || len(bad) > 0 {
+		panic("not a document: " + text)
+	}
+	return l
+}
+
+// Axiom parses an axiom.
+func Axiom(text string) api.Axiom {
+	a, _, e := syntax.Axiom([]byte(text))
+	if e != api.OK {
+		panic("not an axiom: " + text)
+	}
+	return a
+}
+
+// Concept parses a concept.
+func Concept(text string) api.Concept {
+	c, _, e := syntax.Concept([]byte(text))
+	if e != api.OK {
+		panic("not a concept: " + text)
+	}
+	return c
+}
