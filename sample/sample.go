@@ -3,6 +3,7 @@ package sample
 
 import (
 	"veilstone/api"
+	"veilstone/base"
 	"veilstone/syntax"
 )
 
@@ -31,4 +32,13 @@ func Concept(text string) api.Concept {
 		panic("not a concept: " + text)
 	}
 	return c
+}
+
+// Base makes a base of axioms, each of them followed by a ".".
+func Base(text string) api.Base {
+	b, e := base.New(Axioms(text))
+	if e != api.OK {
+		panic("not a base: " + text)
+	}
+	return b
 }
