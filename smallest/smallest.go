@@ -1,0 +1,119 @@
+// Package smallest finds minimal sets that are sufficient by a test. A set that contains a sufficient one must be sufficient, too.
+package smallest
+
+import (
+	"slices"
+
+	"veilstone/api"
+)
+
+// Test reports whether a set of numbers below 1024 is sufficient; part is a part of it that is sufficient as well, perhaps the set itself.
+type Test func(set []int) (ok bool, part []int, e api.Errno)
+
+// Finder asks a test and remembers what follows from its answers.
+type Finder struct {
+	test Test
+	good []bits        // sufficient sets
+	bad  []bits        // sets that are not sufficient
+	know map[bits]bool // the sets in bad
+}
+
+// New returns a finder that knows nothing.
+func New(test Test) *Finder { return &Finder{test: test, know: map[bits]bool{}} }
+
+// sufficient reports whether a set is sufficient, and a part of it that is.
+func (f *Finder) sufficient(set bits) (ok bool, part bits, e api.Errno) {
+	for _, g := range f.good {
+		if g.within(set) {
+			return true, g, api.OK
+		}
+	}
+	if f.know[set] {
+		return false, bits{}, api.OK
+	}
+	for _, b := range f.bad {
+		if set.within(b) {
+			return false, bits{}, api.OK
+		}
+	}
+	ok, list, e := f.test(set.list())
+	if e != api.OK {
+		return false, bits{}, e
+	}
+	if !ok {
+		f.bad = append(f.bad, set)
+		f.know[set] = true
+		return false, bits{}, api.OK
+	}
+	part = bitsOf(list)
+	f.good = append(f.good, part)
+	return true, part, api.OK
+}
+
+// Shrink removes elements of a set, from the greatest to the least, as long as the rest is sufficient; ok is false if the set is not.
+func (f *Finder) Shrink(set []int) (least []int, ok bool, e api.Errno) {
+	rest := bitsOf(set)
+	ok, part, e := f.sufficient(rest)
+	if e != api.OK || !ok {
+		return nil, false, e
+	}
+	for i := len(set) - 1; i >= 0; i-- {
+		less := rest.without(set[i])
+		if !part.has(set[i]) {
+			rest = less
+			continue
+		}
+		ok, p, e := f.sufficient(less)
+		if e != api.OK {
+			return nil, false, e
+		}
+		if ok {
+			rest, part = less, p
+		}
+	}
+	return rest.list(), true, api.OK
+}
+
+// All returns all minimal sufficient sets of some elements; ok is false if there are more than most of them.
+func (f *Finder) All(elements []int, most int) (sets [][]int, ok bool, e api.Errno) {
+	t := newTree()
+	t.full = func() bool { return len(t.sets) > most }
+	t.further = func(chosen []int) ([]int, bool, api.Errno) {
+		rest := bitsOf(elements)
+		for _, n := range chosen {
+			rest = rest.without(n)
+		}
+		if t.full() {
+			return nil, false, api.OK
+		}
+		return f.Shrink(rest.list())
+	}
+	// A set that is found late may have made a difference earlier; the last round finds none.
+	for n := -1; n != len(t.sets); {
+		n = len(t.sets)
+		if e := t.extend(); e != api.OK {
+			return nil, false, e
+		}
+		if t.full() {
+			return nil, false, api.OK
+		}
+	}
+	return t.sets, true, api.OK
+}
+
+// Hitting returns all minimal hitting sets of some sets, in any order; if there are more than most, it returns only some of them, but more than most.
+func Hitting(sets [][]int, most int) (found [][]int) {
+	t := newTree()
+	for _, s := range sets {
+		t.add(s)
+	}
+	t.full = func() bool { return len(found) > most }
+	t.further = func(chosen []int) ([]int, bool, api.Errno) {
+		s := slices.Clone(chosen)
+		slices.Sort(s)
+		found = append(found, s)
+		return nil, false, api.OK
+	}
+	t.extend()
+	return found
+}
