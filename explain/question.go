@@ -1,25 +1,21 @@
 package explain
 
 import (
-	"slices"
-
 	"veilstone/api"
 	"veilstone/base"
 	"veilstone/entail"
 	"veilstone/hitting"
-	"veilstone/module"
-	"veilstone/normal"
-	"veilstone/proof"
+	"veilstone/reason"
 	"veilstone/smallest"
 	"veilstone/terms"
 )
 
 // question asks why a tidy axiom follows from a valid base.
 type question struct {
-	base    api.Base
-	axiom   api.Axiom
-	matters []bool // the axioms that can be elements of explanations
-	finder  *smallest.Finder
+	base   api.Base
+	axiom  api.Axiom
+	reason *reason.Question // once a set of axioms was examined without an error
+	finder *smallest.Finder
 }
 
 func newQuestion(b api.Base, a api.Axiom) (q *question, e api.Errno) {
@@ -30,114 +26,22 @@ func newQuestion(b api.Base, a api.Axiom) (q *question, e api.Errno) {
 	if e != api.OK {
 		return nil, e
 	}
-	q = &question{base: b, axiom: x}
-	q.finder = smallest.New(q.explains)
-	return q, api.OK
-}
-
-// part returns the base of the axioms in a set.
-func (q *question) part(set []int) (b api.Base) {
-	for _, i := range set {
-		b.Axioms = append(b.Axioms, q.base.Axioms[i])
-	}
-	return b
-}
-
-// aboutRoles reports whether the axiom follows from axioms about roles alone.
-func (q *question) aboutRoles() bool { return isRoleAxiom(q.axiom) }
-
-func isRoleAxiom(a api.Axiom) bool {
-	return a.Kind == api.RoleSubA || a.Kind == api.ChainA || a.Kind == api.ReflexiveA
-}
-
-// restrict determines which axioms matter for the conclusion. Others are in no explanation.
-func (q *question) restrict() api.Errno {
-	if q.matters != nil {
-		return api.OK
-	}
-	q.matters = make([]bool, len(q.base.Axioms))
-	if q.aboutRoles() {
-		for i, a := range q.base.Axioms {
-			q.matters[i] = isRoleAxiom(a)
-		}
-		return api.OK
-	}
-	m, e := module.Of(q.base, q.axiom)
-	if e == api.ErrLimit { // too many pieces; fewer axioms may have few enough
-		for i := range q.matters {
-			q.matters[i] = true
-		}
-		return api.OK
-	}
-	for _, a := range m.Axioms {
-		at, _ := base.Find(q.base, a)
-		q.matters[at] = true
-	}
-	return e
-}
-
-// mattering returns the elements of a set that matter.
-func (q *question) mattering(set []int) (l []int) {
-	for _, i := range set {
-		if q.matters[i] {
-			l = append(l, i)
-		}
-	}
-	return l
-}
-
-// explains reports whether the axiom follows from a set of axioms, and which of them a proof uses.
-func (q *question) explains(set []int) (ok bool, used []int, e api.Errno) {
-	b := q.part(set)
-	if q.aboutRoles() {
-		ok, e = entail.Entails(b, q.axiom)
-		return ok, set, e
-	}
-	p, e := normal.Pieces(b.Axioms)
-	if e != api.OK {
-		return false, nil, e
-	}
-	goal, facts, e := normal.Goal(q.axiom)
-	if e != api.OK {
-		return false, nil, e
-	}
-	p = slices.Concat(p, goal)
-	for _, f := range facts {
-		x, e := proof.Find(p, f, api.MaxBudget)
-		if e == api.ErrUnproved {
-			return false, nil, api.OK
-		}
-		if e != api.OK {
-			return false, nil, e
-		}
-		l, e := proof.Axioms(p, x)
-		if e != api.OK {
-			return false, nil, e
-		}
-		for _, i := range l {
-			used = append(used, set[i])
-		}
-	}
-	return true, used, api.OK
+	return &question{base: b, axiom: x}, api.OK
 }
 
 // one returns the explanation that remains when axioms are removed from the last to the first.
 func (q *question) one(out []int) (set []int, ok bool, e api.Errno) {
-	var all []int
-	for i := range q.base.Axioms {
-		if _, left := slices.BinarySearch(out, i); !left {
-			all = append(all, i)
-		}
-	}
+	all := reason.Rest(q.base, out)
 	// The whole set is examined as it is: it may be too large where a part of it is not.
-	ok, e = entail.Entails(q.part(all), q.axiom)
+	ok, e = entail.Entails(reason.Part(q.base, all), q.axiom)
 	if e != api.OK || !ok {
 		return nil, false, e
 	}
-	if e := q.restrict(); e != api.OK {
-		return nil, false, e
+	if q.reason == nil {
+		q.reason = reason.New(q.base, q.axiom)
+		q.finder = smallest.New(q.reason.Uses)
 	}
-	return q.finder.Shrink(q.mattering(all))
+	return q.finder.Shrink(q.reason.Mattering(all))
 }
 
 // all returns all explanations, in any order.
@@ -146,11 +50,7 @@ func (q *question) all() (sets [][]int, e api.Errno) {
 	if e != api.OK || !ok {
 		return nil, e
 	}
-	var all []int
-	for i := range q.base.Axioms {
-		all = append(all, i)
-	}
-	sets, few, e := q.finder.All(q.mattering(all), api.MaxSets)
+	sets, few, e := q.finder.All(q.reason.Mattering(reason.Rest(q.base, nil)), api.MaxSets)
 	if e != api.OK {
 		return nil, e
 	}
