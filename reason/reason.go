@@ -5,11 +5,11 @@ import (
 	"slices"
 
 	"veilstone/api"
-	"veilstone/base"
 	"veilstone/entail"
 	"veilstone/module"
 	"veilstone/normal"
 	"veilstone/proof"
+	"veilstone/terms"
 )
 
 // Question asks why an axiom follows from a base.
@@ -32,9 +32,12 @@ func New(b api.Base, a api.Axiom) *Question {
 	if e != api.OK {
 		m = b
 	}
-	for _, x := range m.Axioms {
-		at, _ := base.Find(b, x)
-		q.matters[at] = true
+	k := 0 // the axioms of the module are in the same order
+	for i, x := range b.Axioms {
+		if k < len(m.Axioms) && terms.CompareAxiom(x, m.Axioms[k]) == 0 {
+			q.matters[i] = true
+			k++
+		}
 	}
 	return q
 }
