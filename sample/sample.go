@@ -1,9 +1,10 @@
-// Package sample makes axioms and concepts from texts, for the tests of the other packages. Its functions panic if a text is wrong.
+// Package sample makes axioms, concepts and queries from texts, for the tests of the other packages. Its functions panic if a text is wrong.
 package sample
 
 import (
 	"veilstone/api"
 	"veilstone/base"
+	"veilstone/query"
 	"veilstone/syntax"
 )
 
@@ -42,3 +43,15 @@ func Base(text string) api.Base {
 	}
 	return b
 }
+
+// Query parses a query.
+func Query(text string) api.Query {
+	q, _, e := query.Parse([]byte(text))
+	if e != api.OK {
+		panic("not a query: " + text)
+	}
+	return q
+}
+
+// Part parses a part of a query without told variables.
+func Part(text string) api.Part { return Query("select where " + text).Parts[0] }
