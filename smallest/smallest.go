@@ -57,18 +57,35 @@ func (f *Finder) Shrink(set []int) (least []int, ok bool, e api.Errno) {
 	if e != api.OK || !ok {
 		return nil, false, e
 	}
-	for i := len(set) - 1; i >= 0; i-- {
-		less := rest.without(set[i])
-		if !part.has(set[i]) {
+	// Several elements at once are tried first: if the rest is sufficient without them, it is when they are removed one after the other.
+	var reduce func(l []int) api.Errno
+	reduce = func(l []int) api.Errno {
+		less := rest
+		for _, n := range l {
+			less = less.without(n)
+		}
+		if part.within(less) {
 			rest = less
-			continue
+			return api.OK
 		}
 		ok, p, e := f.sufficient(less)
 		if e != api.OK {
-			return nil, false, e
+			return e
 		}
 		if ok {
 			rest, part = less, p
+		}
+		if ok || len(l) == 1 {
+			return api.OK
+		}
+		if e := reduce(l[len(l)/2:]); e != api.OK {
+			return e
+		}
+		return reduce(l[:len(l)/2])
+	}
+	if len(set) > 0 {
+		if e := reduce(set); e != api.OK {
+			return nil, false, e
 		}
 	}
 	return rest.list(), true, api.OK
