@@ -44,37 +44,44 @@ func renamePart(p api.Part, told map[string]string) api.Part {
 
 // leastOrder returns the numbers, from 0 on, of the free variables that lead to the least list of atoms.
 func leastOrder(p api.Part, told map[string]string, free []string) (best []int) {
-	numbers := make([]int, len(free))
 	ranks := rank(p, told, free)
+	numbers := slices.Repeat([]int{-1}, len(free))
 	var least []ranked
 	l := make([]ranked, len(ranks))
-	compareBest := func() {
+	// lowest makes the list in which all variables without a number have the given one. No list with greater numbers in their place is less.
+	lowest := func(number int) {
 		for i, a := range ranks {
 			l[i] = a
 			for _, t := range [2]*int{&l[i].x, &l[i].y} {
-				if *t >= otherRank && *t < individualRank {
-					*t = otherRank + numbers[*t-otherRank]
+				if *t < otherRank || *t >= individualRank {
+					continue
+				}
+				if n := numbers[*t-otherRank]; n >= 0 {
+					*t = otherRank + n
+				} else {
+					*t = otherRank + number
 				}
 			}
 		}
 		slices.SortFunc(l, compareRanked)
-		if best == nil || slices.CompareFunc(l, least, compareRanked) < 0 {
-			least, best = append(least[:0], l...), slices.Clone(numbers)
-		}
 	}
-	used := make([]bool, len(free))
-	var distribute func(i int)
-	distribute = func(i int) {
-		if i == len(free) {
-			compareBest()
+	var distribute func(n int)
+	distribute = func(n int) {
+		if n == len(free) {
+			lowest(n)
+			least, best = append(least[:0], l...), slices.Clone(numbers)
 			return
 		}
-		for n := range used {
-			if !used[n] {
-				used[n], numbers[i] = true, n
-				distribute(i + 1)
-				used[n] = false
+		for i := range numbers {
+			if numbers[i] >= 0 {
+				continue
 			}
+			numbers[i] = n
+			lowest(n + 1)
+			if best == nil || slices.CompareFunc(l, least, compareRanked) < 0 {
+				distribute(n + 1)
+			}
+			numbers[i] = -1
 		}
 	}
 	distribute(0)
