@@ -218,6 +218,10 @@ func TestSort(t *testing.T) {
 	if x, e := explain.Sort(api.Base{}, nil); e != api.OK || len(x) != 0 {
 		t.Error(x, e)
 	}
+	bad := api.Base{Axioms: sample.Axioms("B sub A. A sub B.")}
+	if x, e := explain.Sort(bad, [][]int{{9}}); e != api.ErrOrder || x != nil {
+		t.Error(x, e)
+	}
 }
 
 // P17.1, P17.2, P17.3 and P17.4

@@ -1,15 +1,64 @@
 package repair
 
 import (
+	"cmp"
 	"slices"
 
-	"veilstone/api"
-	"veilstone/hitting"
+	"veilstone/smallest"
 )
+
+// maxListed is the greatest number of minimal hitting sets that are listed in order to sort them.
+const maxListed = 4096
+
+// compareSets orders sets by their sizes, and then lexicographically.
+func compareSets(a, b []int) int { return cmp.Or(cmp.Compare(len(a), len(b)), slices.Compare(a, b)) }
 
 // firstHitting returns the first minimal hitting sets, however many there are.
 func firstHitting(sets [][]int, most int) (first [][]int) {
-	if l, e := hitting.All(sets, api.MaxSets); e == api.OK {
+	// Sets without common elements are hit independently of each other. The first hitting sets of all consist of the first ones of each component.
+	first = [][]int{nil}
+	for _, component := range components(sets) {
+		var joined [][]int
+		for _, a := range firstOf(component, most) {
+			for _, b := range first {
+				whole := slices.Concat(a, b)
+				slices.Sort(whole)
+				joined = append(joined, whole)
+			}
+		}
+		slices.SortFunc(joined, compareSets)
+		first = joined[:min(len(joined), most)]
+	}
+	return first[:min(len(first), most)]
+}
+
+// components divides sets into lists without common elements.
+func components(sets [][]int) (lists [][][]int) {
+	of := map[int]int{} // the list of each element
+	for _, s := range sets {
+		joined := [][]int{s}
+		for _, n := range s {
+			at, ok := of[n]
+			if !ok || lists[at] == nil {
+				continue
+			}
+			joined = append(joined, lists[at]...)
+			lists[at] = nil
+		}
+		for _, x := range joined {
+			for _, n := range x {
+				of[n] = len(lists)
+			}
+		}
+		lists = append(lists, joined)
+	}
+	return slices.DeleteFunc(lists, func(l [][]int) bool { return l == nil })
+}
+
+// firstOf returns the first minimal hitting sets of sets that have to do with each other.
+func firstOf(sets [][]int, most int) (first [][]int) {
+	if l := smallest.Hitting(sets, maxListed); len(l) <= maxListed {
+		slices.SortFunc(l, compareSets)
 		return l[:min(len(l), most)]
 	}
 	// There are more of them than are wanted: those of each size are searched for in order.

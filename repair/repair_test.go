@@ -163,6 +163,31 @@ func TestMany(t *testing.T) {
 	if !slices.Equal(l[0], first) {
 		t.Error(l[0], first)
 	}
+	// Triangles: each individual has three facts, any two of which contradict each other.
+	triangles := sample.Axioms("open A disjoint B. open A disjoint C. open B disjoint C.")
+	for i := range 20 {
+		for _, c := range []string{"A", "B", "C"} {
+			triangles = append(triangles, sample.Axiom("type a"+strconv.Itoa(i)+" "+c))
+		}
+	}
+	x, _ := base.New(triangles)
+	keep = nil
+	for i, a := range x.Axioms {
+		if a.Open {
+			keep = append(keep, i)
+		}
+	}
+	l, e = repair.Clash(x, keep, 256)
+	if e != api.OK || len(l) != 256 || len(l[255]) != 40 || !slices.IsSortedFunc(l, compare) {
+		t.Error(len(l), e)
+	}
+	for _, s := range l {
+		if y, _ := repair.Apply(x, s); len(y.Axioms) != 23 {
+			t.Error(s)
+		} else if ok, _ := entail.Consistent(y); !ok {
+			t.Error(s)
+		}
+	}
 	ways := func(n int) api.Base {
 		var l []api.Axiom
 		for i := range n {
