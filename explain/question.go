@@ -50,6 +50,12 @@ func (q *question) all() (sets [][]int, e api.Errno) {
 	if e != api.OK || !ok {
 		return nil, e
 	}
+	if sets, ok := reason.TraceAxiom(q.base, q.axiom, nil); ok {
+		if len(sets) > api.MaxSets {
+			return nil, api.ErrLimit
+		}
+		return sets, api.OK
+	}
 	sets, few, e := q.finder.All(q.reason.Mattering(reason.Rest(q.base, nil)), api.MaxSets)
 	if e != api.OK {
 		return nil, e

@@ -23,11 +23,30 @@ func clashes(b api.Base, keep []int, most int) (sets [][]int, e api.Errno) {
 	if e != api.OK || ok {
 		return nil, e
 	}
+	if sets, ok := reason.TraceClashes(b, keep); ok {
+		return few(sets)
+	}
 	goals, e := contradictions(b)
 	if e != api.OK {
 		return nil, e
 	}
 	return minimal(b, goals, keep)
+}
+
+// causes returns the causes of a tidy axiom that follows from a valid base, in order.
+func causes(b api.Base, a api.Axiom, keep []int) (sets [][]int, e api.Errno) {
+	if sets, ok := reason.TraceAxiom(b, a, keep); ok {
+		return few(sets)
+	}
+	return minimal(b, []api.Axiom{a}, keep)
+}
+
+// few returns sets in order, of which there must be at most MaxSets.
+func few(sets [][]int) ([][]int, api.Errno) {
+	if len(sets) > api.MaxSets {
+		return nil, api.ErrLimit
+	}
+	return hitting.Minimal(sets)
 }
 
 // contradictions returns the axioms that say that everything, or an individual, is in nothing, as far as they follow.
@@ -60,18 +79,18 @@ func elementsOf(set []int) (x elements) {
 
 // minimal returns, in order, the minimal sets of axioms from which, together with those that are kept, one of some goals follows. There must be at most MaxSets.
 func minimal(b api.Base, goals []api.Axiom, keep []int) (sets [][]int, e api.Errno) {
-	var all []smallest.Test
-	few := true
+	var tests []smallest.Test
+	all := true
 	found := map[elements]bool{}
 	for _, g := range goals {
 		test := sufficient(b, g, keep)
-		all = append(all, test)
+		tests = append(tests, test)
 		// Goals by themselves have fewer combinations to examine than all of them together.
 		l, ok, e := search(b, test, keep)
 		if e != api.OK {
 			return nil, e
 		}
-		few = few && ok
+		all = all && ok
 		for _, s := range l {
 			if x := elementsOf(s); !found[x] {
 				found[x] = true
@@ -79,8 +98,8 @@ func minimal(b api.Base, goals []api.Axiom, keep []int) (sets [][]int, e api.Err
 			}
 		}
 	}
-	if !few && len(goals) > 1 {
-		sets, few, e = search(b, either(all), keep)
+	if !all && len(goals) > 1 {
+		sets, all, e = search(b, either(tests), keep)
 		if e != api.OK {
 			return nil, e
 		}
@@ -89,14 +108,14 @@ func minimal(b api.Base, goals []api.Axiom, keep []int) (sets [][]int, e api.Err
 	if e != api.OK {
 		return nil, e
 	}
-	if !few || len(sets) > api.MaxSets {
+	if !all {
 		return nil, api.ErrLimit
 	}
-	return sets, api.OK
+	return few(sets)
 }
 
-// search returns the minimal sets that pass a test; few is false if there are more than MaxSets.
-func search(b api.Base, test smallest.Test, keep []int) (sets [][]int, few bool, e api.Errno) {
+// search returns the minimal sets that pass a test; all is false if there are more than MaxSets.
+func search(b api.Base, test smallest.Test, keep []int) (sets [][]int, all bool, e api.Errno) {
 	return smallest.New(test).All(reason.Rest(b, keep), api.MaxSets)
 }
 

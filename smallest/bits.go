@@ -1,25 +1,34 @@
 package smallest
 
-import mathbits "math/bits"
+import "math/bits"
 
-// bits is a set of numbers below 1024.
-type bits [16]uint64
+// Bits is a set of numbers below 1024.
+type Bits [16]uint64
 
-func bitsOf(l []int) (b bits) {
+// BitsOf returns the set of some numbers.
+func BitsOf(l []int) (b Bits) {
 	for _, n := range l {
 		b[n/64] |= 1 << (n % 64)
 	}
 	return b
 }
 
-func (b bits) has(n int) bool { return b[n/64]>>(n%64)&1 == 1 }
-
-func (b bits) without(n int) bits {
+// Without returns the set without a number.
+func (b Bits) Without(n int) Bits {
 	b[n/64] &^= 1 << (n % 64)
 	return b
 }
 
-func (b bits) within(c bits) bool {
+// With returns the union of two sets.
+func (b Bits) With(c Bits) Bits {
+	for i := range b {
+		b[i] |= c[i]
+	}
+	return b
+}
+
+// Within reports whether all elements are in another set.
+func (b Bits) Within(c Bits) bool {
 	for i := range b {
 		if b[i]&^c[i] != 0 {
 			return false
@@ -28,10 +37,11 @@ func (b bits) within(c bits) bool {
 	return true
 }
 
-func (b bits) list() (l []int) {
+// List returns the elements, in increasing order.
+func (b Bits) List() (l []int) {
 	for i, word := range b {
 		for word != 0 {
-			l = append(l, 64*i+mathbits.TrailingZeros64(word))
+			l = append(l, 64*i+bits.TrailingZeros64(word))
 			word &= word - 1
 		}
 	}

@@ -13,46 +13,46 @@ type Test func(set []int) (ok bool, part []int, e api.Errno)
 // Finder asks a test and remembers what follows from its answers.
 type Finder struct {
 	test Test
-	good []bits        // sufficient sets
-	bad  []bits        // sets that are not sufficient
-	know map[bits]bool // the sets in bad
+	good []Bits        // sufficient sets
+	bad  []Bits        // sets that are not sufficient
+	know map[Bits]bool // the sets in bad
 }
 
 // New returns a finder that knows nothing.
-func New(test Test) *Finder { return &Finder{test: test, know: map[bits]bool{}} }
+func New(test Test) *Finder { return &Finder{test: test, know: map[Bits]bool{}} }
 
 // sufficient reports whether a set is sufficient, and a part of it that is.
-func (f *Finder) sufficient(set bits) (ok bool, part bits, e api.Errno) {
+func (f *Finder) sufficient(set Bits) (ok bool, part Bits, e api.Errno) {
 	for _, g := range f.good {
-		if g.within(set) {
+		if g.Within(set) {
 			return true, g, api.OK
 		}
 	}
 	if f.know[set] {
-		return false, bits{}, api.OK
+		return false, Bits{}, api.OK
 	}
 	for _, b := range f.bad {
-		if set.within(b) {
-			return false, bits{}, api.OK
+		if set.Within(b) {
+			return false, Bits{}, api.OK
 		}
 	}
-	ok, list, e := f.test(set.list())
+	ok, list, e := f.test(set.List())
 	if e != api.OK {
-		return false, bits{}, e
+		return false, Bits{}, e
 	}
 	if !ok {
 		f.bad = append(f.bad, set)
 		f.know[set] = true
-		return false, bits{}, api.OK
+		return false, Bits{}, api.OK
 	}
-	part = bitsOf(list)
+	part = BitsOf(list)
 	f.good = append(f.good, part)
 	return true, part, api.OK
 }
 
 // Shrink removes elements of a set, from the greatest to the least, as long as the rest is sufficient; ok is false if the set is not.
 func (f *Finder) Shrink(set []int) (least []int, ok bool, e api.Errno) {
-	rest := bitsOf(set)
+	rest := BitsOf(set)
 	ok, part, e := f.sufficient(rest)
 	if e != api.OK || !ok {
 		return nil, false, e
@@ -62,9 +62,9 @@ func (f *Finder) Shrink(set []int) (least []int, ok bool, e api.Errno) {
 	reduce = func(l []int) api.Errno {
 		less := rest
 		for _, n := range l {
-			less = less.without(n)
+			less = less.Without(n)
 		}
-		if part.within(less) {
+		if part.Within(less) {
 			rest = less
 			return api.OK
 		}
@@ -88,7 +88,7 @@ func (f *Finder) Shrink(set []int) (least []int, ok bool, e api.Errno) {
 			return nil, false, e
 		}
 	}
-	return rest.list(), true, api.OK
+	return rest.List(), true, api.OK
 }
 
 // All returns all minimal sufficient sets of some elements; ok is false if there are more than most of them.
@@ -96,14 +96,14 @@ func (f *Finder) All(elements []int, most int) (sets [][]int, ok bool, e api.Err
 	t := newTree()
 	t.full = func() bool { return len(t.sets) > most }
 	t.further = func(chosen []int) ([]int, bool, api.Errno) {
-		rest := bitsOf(elements)
+		rest := BitsOf(elements)
 		for _, n := range chosen {
-			rest = rest.without(n)
+			rest = rest.Without(n)
 		}
 		if t.full() {
 			return nil, false, api.OK
 		}
-		return f.Shrink(rest.list())
+		return f.Shrink(rest.List())
 	}
 	// A set that is found late may have made a difference earlier; the last round finds none.
 	for n := -1; n != len(t.sets); {
