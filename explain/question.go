@@ -12,10 +12,13 @@ import (
 
 // question asks why a tidy axiom follows from a valid base.
 type question struct {
-	base   api.Base
-	axiom  api.Axiom
-	reason *reason.Question // once a set of axioms was examined without an error
-	finder *smallest.Finder
+	base     api.Base
+	axiom    api.Axiom
+	reason   *reason.Question // once a set of axioms was examined without an error
+	finder   *smallest.Finder
+	whole    bool    // the whole base was examined without an error
+	traced   [][]int // all explanations
+	complete bool    // whether they could be traced
 }
 
 func newQuestion(b api.Base, a api.Axiom) (q *question, e api.Errno) {
@@ -32,16 +35,30 @@ func newQuestion(b api.Base, a api.Axiom) (q *question, e api.Errno) {
 // one returns the explanation that remains when axioms are removed from the last to the first.
 func (q *question) one(out []int) (set []int, ok bool, e api.Errno) {
 	all := reason.Rest(q.base, out)
-	// The whole set is examined as it is: it may be too large where a part of it is not.
-	ok, e = entail.Entails(reason.Part(q.base, all), q.axiom)
-	if e != api.OK || !ok {
-		return nil, false, e
+	if !q.whole {
+		// A set is examined as it is: it may be too large where a part of it is not.
+		ok, e = entail.Entails(reason.Part(q.base, all), q.axiom)
+		if e != api.OK || !ok {
+			return nil, false, e
+		}
+		q.prepare(len(out) == 0)
 	}
+	return q.finder.Shrink(q.reason.Mattering(all))
+}
+
+// prepare makes what finds explanations, once a set was examined without an error; whole says that it was the whole base.
+func (q *question) prepare(whole bool) {
 	if q.reason == nil {
 		q.reason = reason.New(q.base, q.axiom)
 		q.finder = smallest.New(q.reason.Uses)
 	}
-	return q.finder.Shrink(q.reason.Mattering(all))
+	if !whole {
+		return
+	}
+	q.whole = true
+	if q.traced, q.complete = reason.TraceAxiom(q.base, q.axiom, nil); q.complete {
+		q.finder = smallest.Complete(q.traced)
+	}
 }
 
 // all returns all explanations, in any order.
@@ -50,13 +67,10 @@ func (q *question) all() (sets [][]int, e api.Errno) {
 	if e != api.OK || !ok {
 		return nil, e
 	}
-	if sets, ok := reason.TraceAxiom(q.base, q.axiom, nil); ok {
-		if len(sets) > api.MaxSets {
-			return nil, api.ErrLimit
-		}
-		return sets, api.OK
+	sets, few := q.traced, len(q.traced) <= api.MaxSets
+	if !q.complete {
+		sets, few, e = q.finder.All(q.reason.Mattering(reason.Rest(q.base, nil)), api.MaxSets)
 	}
-	sets, few, e := q.finder.All(q.reason.Mattering(reason.Rest(q.base, nil)), api.MaxSets)
 	if e != api.OK {
 		return nil, e
 	}

@@ -12,14 +12,24 @@ type Test func(set []int) (ok bool, part []int, e api.Errno)
 
 // Finder asks a test and remembers what follows from its answers.
 type Finder struct {
-	test Test
-	good []Bits        // sufficient sets
-	bad  []Bits        // sets that are not sufficient
-	know map[Bits]bool // the sets in bad
+	test     Test
+	good     []Bits        // sufficient sets
+	complete bool          // whether all minimal ones are among them
+	bad      []Bits        // sets that are not sufficient
+	know     map[Bits]bool // the sets in bad
 }
 
 // New returns a finder that knows nothing.
 func New(test Test) *Finder { return &Finder{test: test, know: map[Bits]bool{}} }
+
+// Complete returns a finder that knows all minimal sufficient sets.
+func Complete(sets [][]int) *Finder {
+	f := &Finder{complete: true}
+	for _, s := range sets {
+		f.good = append(f.good, BitsOf(s))
+	}
+	return f
+}
 
 // sufficient reports whether a set is sufficient, and a part of it that is.
 func (f *Finder) sufficient(set Bits) (ok bool, part Bits, e api.Errno) {
@@ -28,7 +38,7 @@ func (f *Finder) sufficient(set Bits) (ok bool, part Bits, e api.Errno) {
 			return true, g, api.OK
 		}
 	}
-	if f.know[set] {
+	if f.complete || f.know[set] {
 		return false, Bits{}, api.OK
 	}
 	for _, b := range f.bad {
